@@ -1,4 +1,7 @@
-"""The rules of the language that can be told from a file alone, rule by rule."""
+"""Some of the rules of the language, each named by its number in its test.
+
+Not looked at here: L9, L11, L13, L19, L21 to L28, and parts of the others.
+"""
 
 import ast
 import builtins
