@@ -2,9 +2,9 @@ import unittest
 
 from rightname.entries import Entry, ahead, book_list, same_book
 from rightname.errors import NoBook, NoDay, NoEntry, NoNumber, NoRank, NoWord
+from tests.makers import FIELDS, Refusing, bad_books, fields, genus
 from tests.things import Balks, no_lists, no_numbers, no_texts
 
-FIELDS = ("number", "day", "rank", "word", "under", "sheet", "base", "described")
 BAD_NUMBERS = [0, -1, 10 ** 9 + 1, 10 ** 30, -10 ** 30]
 BAD_DAYS = [0, -1, 10 ** 6 + 1, 10 ** 9, 10 ** 30]
 BAD_RANKS = ["", "Genus", "genus ", "family", "forms"]
@@ -18,22 +18,6 @@ SORTS = (
     (4, 1, "form", "alba", 2, 7, None, True),
     (5, 1, "form", "alba", 3, None, 4, True),
 )
-
-
-def fields(entry):
-    return tuple([getattr(entry, name) for name in FIELDS])
-
-
-def genus(number, day, word="rosa"):
-    return Entry(number, day, "genus", word, None, number)
-
-
-class Refusing(unittest.TestCase):
-    def refused(self, kind, call, *args, **named):
-        with self.subTest(args=[object.__repr__(arg) for arg in args], named=sorted(named)):
-            with self.assertRaises(kind) as caught:
-                call(*args, **named)
-            self.assertIs(type(caught.exception), kind)
 
 
 class Made(unittest.TestCase):
@@ -200,27 +184,6 @@ def good_books():
     ]
 
 
-def bad_lists():
-    good = genus(1, 1)
-    strangers = no_lists() + [[], [good], fields(good), dict(zip(FIELDS, fields(good))), Entry]
-    found = [[stranger] for stranger in strangers]
-    found += [[good, stranger] for stranger in strangers]
-    found += [[stranger, good] for stranger in strangers]
-    found += [
-        [good, good],
-        [good, genus(1, 1)],
-        [good, genus(1, 2)],
-        [genus(1, 1), genus(2, 2), genus(1, 3)],
-        [genus(1, 2), genus(2, 1)],
-        [genus(2, 2), genus(1, 1)],
-        [genus(1, 1), genus(2, 3), genus(3, 2)],
-        [genus(2, 1), genus(1, 1)],
-        [genus(1, 1), genus(3, 2), genus(2, 2)],
-        [genus(1, 1), genus(2, 1), genus(4, 1), genus(3, 1)],
-    ]
-    return found
-
-
 class LooksLikeAnEntry:
     def __init__(self):
         for name, value in zip(FIELDS, SORTS[0]):
@@ -277,11 +240,11 @@ class BookList(Refusing):
             self.refused(NoBook, book_list, thing)
 
     def test_what_is_no_book(self):
-        for thing in bad_lists() + [[LooksLikeAnEntry()]]:
+        for thing in bad_books() + [[LooksLikeAnEntry()]]:
             self.refused(NoBook, book_list, thing)
 
     def test_a_refused_list_stays_as_it_was(self):
-        for thing in bad_lists():
+        for thing in bad_books():
             kept = list(thing)
             with self.assertRaises(NoBook):
                 book_list(thing)
@@ -357,7 +320,7 @@ class SameBook(Refusing):
                 self.assertEqual((one, other), (first, second))
 
     def test_no_book_as_the_first_or_the_second(self):
-        for thing in no_lists() + [genus(1, 1), (genus(1, 1),)] + bad_lists():
+        for thing in no_lists() + [genus(1, 1), (genus(1, 1),)] + bad_books():
             for book in ([], [genus(1, 1)]):
                 self.refused(NoBook, same_book, thing, book)
                 self.refused(NoBook, same_book, book, thing)
@@ -368,7 +331,7 @@ class SameBook(Refusing):
         self.refused(NoBook, same_book, [genus(5, 5), genus(4, 4)], [genus(1, 1)])
 
     def test_a_refused_list_stays_as_it_was(self):
-        for thing in bad_lists():
+        for thing in bad_books():
             kept, book = list(thing), [genus(1, 1)]
             entry = book[0]
             for pair in ((thing, book), (book, thing)):

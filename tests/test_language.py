@@ -1,6 +1,8 @@
 """Some of the rules of the language, each named by its number in its test.
 
-Not looked at here: L9, L11, L13, L19, L21 to L28, and parts of the others.
+Not looked at here: L9, L11, L28, and parts of the others. Some checks are
+narrower than their rule: no set is used at all, no annotation, no docstring
+but a file's own.
 """
 
 import ast
@@ -31,6 +33,18 @@ WORDS = (
     "ABCMeta namedtuple NamedTuple TypedDict TYPE_CHECKING abstractmethod"
 ).split()
 NO_NAMES = "register mro elements open input version_info with_traceback add_note".split()
+METHODS = (
+    "append clear copy count endswith extend find get index insert isalnum isalpha isdigit islower "
+    "isspace isupper items join keys ljust lower lstrip partition pop remove replace reverse rfind "
+    "rjust rpartition rsplit rstrip setdefault split splitlines startswith strip update upper values "
+    "zfill bit_length"
+).split()
+KEYWORDS = {
+    "sorted": ("key", "reverse"), "min": ("key", "default"), "max": ("key", "default"),
+    "sum": ("start",), "enumerate": ("start",), "zip": ("strict",),
+}
+WALKED = ("zip", "enumerate", "reversed", "range")
+WALKERS = ("list", "tuple", "dict", "sorted", "sum", "any", "all", "enumerate", "zip", "min", "max")
 DUNDERS = ("__init__", "__eq__", "__repr__", "__str__", "__len__")
 
 
@@ -52,6 +66,35 @@ def bound_names(tree):
             yield node.id
         elif isinstance(node, ast.Attribute):
             yield node.attr
+
+
+def own_methods():
+    return [
+        part.name for name, tree in trees() for node in ast.walk(tree) if isinstance(node, ast.ClassDef)
+        for part in node.body if isinstance(part, ast.FunctionDef) and part.name not in DUNDERS
+    ]
+
+
+def error_classes():
+    tree = dict(trees())["errors.py"]
+    return [node.name for node in tree.body if isinstance(node, ast.ClassDef)]
+
+
+def is_walked(node):
+    """Whether a call makes something that is to be walked on the spot."""
+    if not isinstance(node, ast.Call):
+        return False
+    if isinstance(node.func, ast.Name):
+        return node.func.id in WALKED
+    return isinstance(node.func, ast.Attribute) and node.func.attr in ("items", "keys", "values")
+
+
+def is_plain(value, functions):
+    if isinstance(value, (ast.List, ast.Tuple)):
+        return all(is_plain(part, functions) for part in value.elts)
+    if isinstance(value, ast.Dict):
+        return all(is_plain(part, functions) for part in value.keys + value.values)
+    return isinstance(value, ast.Constant) or isinstance(value, ast.Name) and value.id in functions
 
 
 class Files(unittest.TestCase):
@@ -163,6 +206,123 @@ class Forms(unittest.TestCase):
                         if isinstance(operator, (ast.Is, ast.IsNot)):
                             self.assertIsInstance(right, ast.Constant, (name, node.lineno))
                             self.assertIn(right.value, (None, True, False), (name, node.lineno))
+
+    def test_l3_l15_names_at_the_top(self):
+        for name, tree in trees():
+            functions = [node.name for node in tree.body if isinstance(node, ast.FunctionDef)]
+            bound = []
+            for node in tree.body:
+                if isinstance(node, ast.ImportFrom):
+                    bound += [part.asname or part.name for part in node.names]
+                elif isinstance(node, (ast.FunctionDef, ast.ClassDef)):
+                    bound.append(node.name)
+                elif isinstance(node, ast.Assign):
+                    self.assertIsInstance(node.targets[0], ast.Name, name)
+                    self.assertTrue(is_plain(node.value, functions), (name, node.lineno))
+                    bound.append(node.targets[0].id)
+            self.assertEqual(len(bound), len(set(bound)), name)
+
+    def test_l15_no_local_is_called_like_a_name_of_the_top(self):
+        for name, tree in trees():
+            tops = [part.asname or part.name for node in tree.body if isinstance(node, ast.ImportFrom)
+                    for part in node.names]
+            tops += [node.name for node in tree.body if isinstance(node, (ast.FunctionDef, ast.ClassDef))]
+            for outer in ast.walk(tree):
+                if not isinstance(outer, ast.FunctionDef):
+                    continue
+                for node in ast.walk(outer):
+                    if isinstance(node, ast.arg):
+                        self.assertNotIn(node.arg, tops, (name, outer.name))
+                    if isinstance(node, ast.Name) and isinstance(node.ctx, ast.Store):
+                        self.assertNotIn(node.id, tops, (name, outer.name))
+
+    def test_l6_l21_calls_by_themselves_and_no_annotation(self):
+        for name, tree in trees():
+            for node in ast.walk(tree):
+                if isinstance(node, ast.Expr) and node not in tree.body[:1]:
+                    self.assertIsInstance(node.value, ast.Call, (name, node.lineno))
+                if isinstance(node, ast.arg):
+                    self.assertIsNone(node.annotation, name)
+                if isinstance(node, ast.FunctionDef):
+                    self.assertIsNone(node.returns, name)
+
+    def test_l19_errors_are_taken_and_raised_by_name(self):
+        own = error_classes()
+        for name, tree in trees():
+            for node in ast.walk(tree):
+                if isinstance(node, ast.ExceptHandler):
+                    self.assertIsInstance(node.type, ast.Name, (name, node.lineno))
+                    self.assertIn(node.type.id, own + ["KeyError"], (name, node.lineno))
+                if isinstance(node, ast.Raise):
+                    self.assertIsInstance(node.exc, ast.Call, (name, node.lineno))
+                    self.assertIn(node.exc.func.id, own, (name, node.lineno))
+
+    def test_l22_keywords(self):
+        own = error_classes()
+        for name, tree in trees():
+            for node in ast.walk(tree):
+                if not isinstance(node, ast.Call) or not node.keywords:
+                    continue
+                place = (name, node.lineno)
+                if isinstance(node.func, ast.Attribute):
+                    self.assertNotIn(node.func.attr, METHODS, place)
+                elif node.func.id in OWN_NAMES:
+                    for keyword in node.keywords:
+                        self.assertIn(keyword.arg, KEYWORDS.get(node.func.id, ()), place)
+                else:
+                    self.assertNotIn(node.func.id, own, place)
+
+    def test_l23_walked_at_once(self):
+        for name, tree in trees():
+            good = []
+            for node in ast.walk(tree):
+                if isinstance(node, (ast.For, ast.comprehension)):
+                    good.append(node.iter)
+                if isinstance(node, ast.Call) and isinstance(node.func, ast.Name) and node.func.id in WALKERS:
+                    good += node.args[:1]
+                if isinstance(node, ast.Call) and isinstance(node.func, ast.Attribute) and node.func.attr == "join":
+                    good += node.args
+            for node in ast.walk(tree):
+                if is_walked(node):
+                    self.assertIn(node, good, (name, node.lineno))
+
+    def test_l24_no_set_at_all(self):
+        for name, tree in trees():
+            for node in ast.walk(tree):
+                self.assertFalse(isinstance(node, ast.Set), (name, getattr(node, "lineno", 0)))
+                if isinstance(node, ast.Name):
+                    self.assertNotIn(node.id, ("set", "frozenset"), (name, node.lineno))
+
+    def test_l25_methods_are_called_where_they_stand(self):
+        mine = own_methods()
+        for name, tree in trees():
+            called = [node.func for node in ast.walk(tree) if isinstance(node, ast.Call)]
+            for node in ast.walk(tree):
+                if not isinstance(node, ast.Attribute):
+                    continue
+                if node in called:
+                    self.assertIn(node.attr, METHODS + mine + list(DUNDERS), (name, node.lineno))
+                else:
+                    self.assertNotIn(node.attr, METHODS + mine, (name, node.lineno))
+
+    def test_l26_own_methods_and_values(self):
+        theirs = dir("") + dir(1) + dir([]) + dir({}) + dir(set()) + dir(b"") + ["args"]
+        for name in own_methods():
+            self.assertNotIn(name, theirs)
+        for name, tree in trees():
+            for node in ast.walk(tree):
+                if isinstance(node, ast.Attribute) and isinstance(node.ctx, ast.Store):
+                    self.assertNotIn(node.attr, theirs, (name, node.lineno))
+
+    def test_l27_texts(self):
+        for name, tree in trees():
+            for node in ast.walk(tree):
+                if isinstance(node, ast.Constant) and isinstance(node.value, str):
+                    self.assertNotIn("%", node.value, (name, node.lineno))
+                if isinstance(node, ast.Name):
+                    self.assertNotEqual(node.id, "chr", (name, node.lineno))
+        for name, text in sources():
+            self.assertNotRegex(text, r"""\\[^nt\\'"]""", name)
 
 
 if __name__ == "__main__":
