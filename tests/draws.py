@@ -5,6 +5,7 @@ from rightname.entries import Entry
 from rightname.outcomes import outcomes
 
 WORDS = ("alba", "bella", "canina", "dulcis")
+MORE_WORDS = WORDS + ("extra", "fulva")
 
 
 def drawn_tie(chance, rank, book, sheets, odd):
@@ -29,7 +30,7 @@ def drawn_under(chance, rank, book, odd):
 
 
 def drawn_entry(chance, number, day, book, sheets=12, odd=0.15, words=WORDS):
-    rank = chance.choice(("genus", "species", "species", "form", "form"))
+    rank = chance.choice(("genus", "species", "species", "form", "form", "form"))
     under = drawn_under(chance, rank, book, odd)
     sheet, base, word = drawn_tie(chance, rank, book, sheets, odd)
     if word is None or chance.random() < odd:
@@ -60,3 +61,25 @@ def drawn_acts(chance, book, count):
         if there:
             acts.append(Act(day, chance.choice(DEEDS), chance.choice(there)))
     return acts
+
+
+def drawn_groups(chance, sheets, depth):
+    """Sheets parted into groups down to the forms, none of them empty."""
+    if depth == 3:
+        return sorted(sheets)
+    count = min(len(sheets), chance.choice((1, 1, 2, 3) if depth < 2 else (1, 2, 3, 4)))
+    parts = [[sheet] for sheet in sheets[:count]]
+    for sheet in sheets[count:]:
+        chance.choice(parts).append(sheet)
+    return [drawn_groups(chance, part, depth + 1) for part in parts]
+
+
+def drawn_sorting(chance, most=14):
+    sheets = chance.sample(range(1, most + 1), chance.choice((0, 1, 4, most - 3, most - 2, most - 1, most)))
+    return drawn_groups(chance, sheets, 0) if sheets else []
+
+
+def drawn_trial(chance, count=70, odd=0.05):
+    """Entries, acts, a sorting and a day."""
+    book = drawn_book(chance, count, 12, odd, MORE_WORDS)
+    return book, drawn_acts(chance, book, chance.randint(0, 16)), drawn_sorting(chance), chance.randint(1, 14)
