@@ -97,6 +97,10 @@ class Wholes(unittest.TestCase):
             for word in (sign, sign + "12", "1" + sign + "2", "12" + sign, sign * 3):
                 self.assertIsNone(whole_of(word, 10 ** 12), repr(word))
 
+    def test_things_that_are_no_texts(self):
+        for thing in no_texts() + [None]:
+            self.assertIsNone(whole_of(thing, 10 ** 12))
+
     def test_far_too_long_ones(self):
         for length in (14, 30, 4300, 4301, 20000):
             self.assertIsNone(whole_of("9" * length, 10 ** 12))
