@@ -264,7 +264,7 @@ class NoOther(unittest.TestCase):
                 self.fail((rows, acts, sorting, table))
         return count
 
-    def test_all_tables_of_small_sortings(self):
+    def test_every_table_of_a_pool_for_small_sortings(self):
         count = self.only_the_courts(GENERA, [], [[[[1, 2]]]])
         for acts in ([], ["5 keep 5"], ["5 strike 4"]):
             count += self.only_the_courts(ALBA, acts, [[[[1, 4]], [[5]]]])
